@@ -443,7 +443,7 @@ func wantFull(t *testing.T, name string, b board, power int) {
 	need := s.Len() - before
 	want := b.after(power, false)
 	// Where much is needed some rooms do.
-	hop := 1 + need/50
+	hop := 1 + need/25
 	for room := 0; room <= need; room += hop {
 		s := fresh(t, before+room)
 		m := evolve.New(s)
